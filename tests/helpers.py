@@ -1,0 +1,106 @@
+"""What the tests share: drawing by a fixed rule, wrong values, and what an error must look like."""
+
+import unittest
+
+from lanelots.nets import Net
+
+WORDS = ("low", "high", "sort", "copy", "add")
+HUGE = 10 ** 30 - 1
+
+NOT_INTEGERS = (True, False, None, "", "1", b"1", (), (1,), [], [1], {}, {0: 1}, Net(1))
+NOT_COUNTS = NOT_INTEGERS + (-1, -2, -HUGE)
+NOT_LISTS = (None, True, False, 0, 1, "", "ab", b"ab", {}, {0: 1}, Net(2))
+NOT_NETS = (None, True, 1, "net", [], (), ("low", 0, 1), [("low", 0, 1)], {})
+
+NOT_CONTENTS_OF_TWO = NOT_LISTS + (
+    [], (), [1], (1,), [1, 2, 3], (1, 2, 3), [True, 0], [0, False], [None, 1], (1, None), ["1", 2], [[1], 2],
+    [(1,), (2,)], list(range(13)),
+)
+NOT_ORDERS_OF_TWO = NOT_LISTS + (
+    [], (0,), [0], [0, 0], [1, 1], [1, 2], (0, 2), [-1, 0], [0, 1, 2], [0, 1, 1], [False, True], [0, True], [0, None],
+    ["0", "1"], [0, [1]], [(0,), (1,)],
+)
+NOT_GATES_OF_TWO = (
+    None, True, 0, "low", "", (), [], {}, Net(2), ["low", 0, 1], ["add", 0, 1],
+    ("low",), ("low", 0), ("low", 0, 1, 0), ("add", 0), ("add", 0, 1, 1),
+    ("least", 0, 1), ("Low", 0, 1), ("", 0, 1), (None, 0, 1), (0, 0, 1), (("low",), 0, 1), (["low"], 0, 1), (b"low", 0, 1),
+    ("low", 0, 0), ("high", 1, 1), ("sort", 1, 1), ("copy", 0, 0),
+    ("low", 0, 2), ("high", 2, 0), ("sort", 0, -1), ("copy", -1, 0), ("add", 2, 0), ("add", -1, 0),
+    ("low", False, True), ("low", 0, True), ("sort", False, 1), ("add", True, 1), ("add", 0, True), ("add", 0, False),
+    ("low", None, 1), ("high", 0, None), ("sort", "0", "1"), ("copy", (0,), 1), ("copy", 0, [1]),
+    ("add", 0, None), ("add", 0, "1"), ("add", 0, (1,)), ("add", None, 1), ("add", [0], 1), ("add", 0, [1]),
+)
+GATES_OF_TWO = (
+    ("low", 0, 1), ("low", 1, 0), ("high", 0, 1), ("high", 1, 0), ("sort", 0, 1), ("sort", 1, 0), ("copy", 0, 1),
+    ("copy", 1, 0), ("add", 0, 0), ("add", 1, 1), ("add", 0, -HUGE), ("add", 1, HUGE),
+)
+
+
+class Draw:
+    """Numbers, contents and nets drawn by a fixed rule, from a seed on."""
+
+    def __init__(self, seed):
+        self.state = seed * 7919 + 12345
+
+    def below(self, many):
+        self.state = (self.state * 6364136223846793005 + 1442695040888963407) % 2 ** 64
+        return (self.state >> 33) * many >> 31
+
+    def pick(self, things):
+        return things[self.below(len(things))]
+
+    def number(self, most):
+        return self.below(2 * most + 1) - most
+
+    def content(self, lanes, most):
+        if most < 2 ** 30:
+            return [self.number(most) for _ in range(lanes)]
+        return [self.number(999999) * (most // 999999) + self.number(1) for _ in range(lanes)]
+
+    def order(self, lanes):
+        left = list(range(lanes))
+        return [left.pop(self.below(len(left))) for _ in range(lanes)]
+
+    def gate(self, lanes, words=WORDS):
+        word = self.pick(words) if lanes > 1 else "add"
+        i = self.below(lanes)
+        if word == "add":
+            return ("add", i, self.number(4))
+        return (word, i, (i + 1 + self.below(lanes - 1)) % lanes)
+
+    def gates(self, lanes, many, words=WORDS):
+        return [self.gate(lanes, words) for _ in range(many)]
+
+    def net(self, lanes, many, words=WORDS):
+        return Net(lanes, self.gates(lanes, many, words))
+
+
+def drawn_nets(times, most_lanes=12, most_gates=30, words=WORDS, least_lanes=1):
+    """Many nets, each with the draw from which its contents can be drawn on."""
+    found = []
+    for seed in range(times):
+        draw = Draw(seed)
+        lanes = least_lanes + draw.below(most_lanes - least_lanes + 1)
+        found.append((draw.net(lanes, draw.below(most_gates + 1), words), draw))
+    return found
+
+
+def drawn_contents(draw, lanes):
+    """Contents near one another, with equal numbers, far apart, and with up to thirty digits."""
+    return [draw.content(lanes, most) for most in (1, 2, 6, 1000, HUGE)] + [[7] * lanes]
+
+
+class Case(unittest.TestCase):
+    """A test case that also looks at kinds: True is not 1, and a tuple is no list."""
+
+    def same(self, told, wanted):
+        self.assertEqual(told, wanted)
+        self.assertEqual(repr(told), repr(wanted))
+
+    def fails(self, kind, attributes, action, *parts, **named):
+        """The call raises just this kind of error, with these attributes, equal and of the same kind."""
+        with self.assertRaises(kind) as caught:
+            action(*parts, **named)
+        self.assertIs(type(caught.exception), kind)
+        for name, wanted in attributes.items():
+            self.same(getattr(caught.exception, name), wanted)

@@ -1,0 +1,85 @@
+"""The form of the package's files, as far as it can be counted."""
+
+import ast
+import builtins
+import pathlib
+import unittest
+
+import lanelots
+
+FOLDER = pathlib.Path(lanelots.__file__).parent
+LIBRARY = {
+    "heapq": {"heappush", "heappop", "heapify", "heapreplace", "heappushpop"},
+    "math": {"gcd", "lcm", "isqrt", "comb", "perm", "factorial"},
+    "itertools": {"product", "combinations", "permutations", "chain", "accumulate", "pairwise", "islice", "zip_longest"},
+    "collections": {"defaultdict", "deque"},
+}
+BUILTINS = set("""
+    len range enumerate zip min max sum abs sorted reversed int str bool bytes list tuple dict set frozenset isinstance
+    ord repr any all divmod pow getattr hasattr setattr iter next map type super property staticmethod classmethod
+    Exception ValueError TypeError KeyError IndexError LookupError ZeroDivisionError ArithmeticError OverflowError
+    RuntimeError NotImplementedError AttributeError StopIteration NotImplemented
+""".split())
+
+
+def files():
+    return sorted(path for path in FOLDER.iterdir() if path.name != "__pycache__")
+
+
+def trees():
+    return [(path.name, ast.parse(path.read_text("utf-8"))) for path in files()]
+
+
+def top_names(tree):
+    """The names that a file defines itself."""
+    names = set()
+    for node in tree.body:
+        if isinstance(node, (ast.FunctionDef, ast.ClassDef)):
+            names.add(node.name)
+        elif isinstance(node, ast.Assign):
+            names.update(target.id for target in node.targets)
+    return names
+
+
+class Form(unittest.TestCase):
+    def test_the_folder_has_only_plain_files(self):
+        for path in files():
+            self.assertRegex(path.name, r"^[a-z_][a-z0-9_]*\.py$")
+
+    def test_characters_and_sizes(self):
+        for path in files():
+            text = path.read_text("utf-8")
+            self.assertFalse([sign for sign in text if sign != "\n" and not " " <= sign <= "~"], path)
+            lines = text.splitlines()
+            self.assertLessEqual(len(lines), 399, path)
+            self.assertLessEqual(max([len(line) for line in lines]), 120, path)
+
+    def test_functions_have_at_most_forty_lines(self):
+        for name, tree in trees():
+            for node in ast.walk(tree):
+                if isinstance(node, ast.FunctionDef):
+                    self.assertLessEqual(node.end_lineno - node.lineno + 1, 40, (name, node.name))
+
+    def test_imports_name_the_file_that_defines(self):
+        defined = {f"lanelots.{name[:-3]}": top_names(tree) for name, tree in trees()}
+        for name, tree in trees():
+            for node in ast.walk(tree):
+                self.assertNotIsInstance(node, ast.Import, name)
+                if isinstance(node, ast.ImportFrom):
+                    self.assertEqual(node.level, 0, name)
+                    known = LIBRARY.get(node.module, set()) | defined.get(node.module, set())
+                    self.assertFalse([alias.name for alias in node.names if alias.name not in known], name)
+
+    def test_only_the_builtins_that_are_let(self):
+        for name, tree in trees():
+            used = {node.id for node in ast.walk(tree) if isinstance(node, ast.Name)}
+            self.assertFalse({word for word in used if hasattr(builtins, word)} - BUILTINS, name)
+
+    def test_no_floats_and_no_percent_signs(self):
+        for name, tree in trees():
+            for node in ast.walk(tree):
+                self.assertNotIsInstance(node, ast.Div, name)
+                if isinstance(node, ast.Constant):
+                    self.assertNotIsInstance(node.value, float, name)
+                    if isinstance(node.value, str):
+                        self.assertNotIn("%", node.value, name)
