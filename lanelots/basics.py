@@ -1,6 +1,7 @@
 """INTEGERS, COUNTS, contents and rows, and the checks of parameters that all files share."""
 
-from lanelots.errors import InvalidContent, InvalidLane, InvalidMany, InvalidNumber, InvalidOrder, InvalidOther
+from lanelots.errors import InvalidContent, InvalidLane, InvalidLanes, InvalidMany, InvalidNumber, InvalidOrder
+from lanelots.errors import InvalidOther
 
 LANES_AT_MOST = 12
 
@@ -52,10 +53,22 @@ def check_content(content, lanes):
         raise InvalidContent(content)
 
 
+def check_lanes(lanes, least):
+    """InvalidLanes unless an INTEGER from least to twelve."""
+    if not is_integer(lanes) or not least <= lanes <= LANES_AT_MOST:
+        raise InvalidLanes(lanes)
+
+
 def check_lane(lane, lanes):
     """InvalidLane unless one of so many lanes."""
     if not is_lane(lane, lanes):
         raise InvalidLane(lane)
+
+
+def check_number(number):
+    """InvalidNumber unless an INTEGER."""
+    if not is_integer(number):
+        raise InvalidNumber(number)
 
 
 def check_many(many):
@@ -91,8 +104,7 @@ def is_at_most(content, other):
 def raised(content, number):
     """The content with the number added to all lanes."""
     _check_any_content(content)
-    if not is_integer(number):
-        raise InvalidNumber(number)
+    check_number(number)
     return [own + number for own in content]
 
 

@@ -1,8 +1,7 @@
 """Gates, and nets of them: lists of gates on one to twelve lanes."""
 
-from lanelots.basics import LANES_AT_MOST, check_content, check_order, is_count, is_integer, is_lane, is_list
-from lanelots.errors import InvalidGate, InvalidGates, InvalidLanes, InvalidMany, InvalidOther, InvalidPosition
-from lanelots.errors import TooMany
+from lanelots.basics import check_content, check_lanes, check_many, check_order, is_count, is_integer, is_lane, is_list
+from lanelots.errors import InvalidGate, InvalidGates, InvalidOther, InvalidPosition, TooMany
 
 _TWO_LANE_WORDS = ("low", "high", "sort", "copy")
 
@@ -77,7 +76,7 @@ class Net:
     MOST_GATES = 400
 
     def __init__(self, lanes, gates=()):
-        _check_lanes(lanes, 1)
+        check_lanes(lanes, 1)
         _check_gates(gates, lanes)
         self._lanes = lanes
         self._gates = [tuple(gate) for gate in gates]
@@ -127,8 +126,7 @@ class Net:
 
     def __mul__(self, other):
         """So many of this net, one behind another."""
-        if not is_count(other):
-            raise InvalidMany(other)
+        check_many(other)
         if len(self._gates) * other > self.MOST_GATES:
             raise TooMany("gates", self.MOST_GATES)
         # Without gates any number may come, even one by which Python takes no list.
@@ -162,7 +160,7 @@ class Net:
 
     def wider(self, lanes):
         """The same gates on so many lanes."""
-        _check_lanes(lanes, self._lanes)
+        check_lanes(lanes, self._lanes)
         return Net(lanes, self._gates)
 
     def with_gate(self, position, gate):
@@ -187,11 +185,6 @@ class Net:
         _check_position(position, len(self._gates) - 1)
         ahead, behind = self._gates[:position], self._gates[position + 2:]
         return Net(self._lanes, ahead + [self._gates[position + 1], self._gates[position]] + behind)
-
-
-def _check_lanes(lanes, least):
-    if not is_integer(lanes) or not least <= lanes <= LANES_AT_MOST:
-        raise InvalidLanes(lanes)
 
 
 def _check_gates(gates, lanes):

@@ -2,6 +2,8 @@
 
 import unittest
 
+from lanelots.families import CoFamily, Family
+from lanelots.maps import Map
 from lanelots.nets import Net
 
 WORDS = ("low", "high", "sort", "copy", "add")
@@ -23,7 +25,8 @@ NOT_ORDERS_OF_TWO = NOT_LISTS + (
 NOT_GATES_OF_TWO = (
     None, True, 0, "low", "", (), [], {}, Net(2), ["low", 0, 1], ["add", 0, 1],
     ("low",), ("low", 0), ("low", 0, 1, 0), ("add", 0), ("add", 0, 1, 1),
-    ("least", 0, 1), ("Low", 0, 1), ("", 0, 1), (None, 0, 1), (0, 0, 1), (("low",), 0, 1), (["low"], 0, 1), (b"low", 0, 1),
+    ("least", 0, 1), ("Low", 0, 1), ("", 0, 1), (None, 0, 1), (0, 0, 1), (("low",), 0, 1), (["low"], 0, 1),
+    (b"low", 0, 1),
     ("low", 0, 0), ("high", 1, 1), ("sort", 1, 1), ("copy", 0, 0),
     ("low", 0, 2), ("high", 2, 0), ("sort", 0, -1), ("copy", -1, 0), ("add", 2, 0), ("add", -1, 0),
     ("low", False, True), ("low", 0, True), ("sort", False, 1), ("add", True, 1), ("add", 0, True), ("add", 0, False),
@@ -34,6 +37,43 @@ GATES_OF_TWO = (
     ("low", 0, 1), ("low", 1, 0), ("high", 0, 1), ("high", 1, 0), ("sort", 0, 1), ("sort", 1, 0), ("copy", 0, 1),
     ("copy", 1, 0), ("add", 0, 0), ("add", 1, 1), ("add", 0, -HUGE), ("add", 1, HUGE),
 )
+NOT_LOTS = NOT_LISTS + (
+    [], (), [(0, 1)], [[0, 1]], ([0, 1],), [((0, 1),)], (((0, 1),),), ((0, 1), [1, 1]), (0, 1), (0,), ("01",), ((),),
+    ((0,),),
+    ((0, 1, 2),), ((0, 1), (1,)), ((0, 1), ()), ((0, 1), 1), ((0, 1), None), (None,), ("0", 1), (("0", 1),),
+    ((0, "1"),),
+    ((0, True),), ((0, False),), ((False, 1),), ((True, 1),), ((0, 1), (True, 1)), ((0, 1), (1, False)), ((None, 1),),
+    ((0, None),), ((0, (1,)),), ((0, [1]),), (((0,), 1),), ({0: 1},), {0: 1}, {(0, 1): True}, ((-1, 1),), ((12, 1),),
+    ((0, 1), (12, 1)), ((0, 1), (0, 1)), ((0, 1), (0, 2)), ((1, 1), (0, 1)), ((0, 1), (2, 1), (1, 1)), ((HUGE, 1),),
+    tuple((lane, 0) for lane in range(13)), Family([((0, 1),)]), CoFamily([((0, 1),)]), Map.same(1),
+)
+LOTS = (
+    ((0, 0),), ((11, 0),), ((0, 3),), ((0, -3), (1, 5)), ((2, 7), (11, 7)), ((0, HUGE), (5, -HUGE), (6, 0)),
+    tuple((lane, -lane) for lane in range(12)),
+)
+NOT_FAMILIES = NOT_LISTS + (
+    [], (), [((0, 1),)], ((0, 1),), "Family([((0, 1),)])", CoFamily([((0, 1),)]), Map.same(1), [Family([((0, 1),)])],
+)
+NOT_MAPS = NOT_LISTS + ([], (), Family([((0, 0),)]), CoFamily([((0, 0),)]), [Family([((0, 0),)])], "Map")
+
+# What is no paper of anything: each question whether a value is one says False of all of these.
+NO_PAPERS = NOT_LISTS + (
+    -1, HUGE, [], (), {}, set(), [0], (0,), [()], ((),), {None: None}, {0: None}, {0: True}, {True: 0}, {"a": 0},
+    {(): ()},
+    (0, 0), (0, 0, 0), [0, 0, 0], (None, None), (None, None, None), ([], []), ({}, {}), (0, ((0, 0),), {}), ("end",),
+    ("ask",),
+    ("end", None), ("ask", None, None), ("ask", ((0, 0),), {}), ("ask", (), {}), ("end", ()), ("end", [[0, 0]]),
+    ["end", ((0, 0),)],
+    {((0, 0),): None}, {((0, 0),): []}, {((0, 0),): ((0, [0]),)}, {((0, False),): 0}, {False: ((0, 0),)},
+    {((0, 0),): False},
+    object(), ValueError, [[[[]]]], ((((),),),), {0: {0: {0: {}}}}, Family([((0, 1),)]), CoFamily([((0, 1),)]),
+    Map.same(2),
+)
+
+
+def antichain(many, one=0, other=1):
+    """So many lots over two lanes, none of them under or over another one."""
+    return [((one, number), (other, -number)) for number in range(many)]
 
 
 class Draw:
@@ -71,6 +111,19 @@ class Draw:
     def gates(self, lanes, many, words=WORDS):
         return [self.gate(lanes, words) for _ in range(many)]
 
+    def lot(self, lanes, most, least=1):
+        wide = least + self.below(lanes - least + 1)
+        return tuple((lane, self.content(1, most)[0]) for lane in sorted(self.order(lanes)[:wide]))
+
+    def lots(self, many, lanes, most, least=1):
+        return [self.lot(lanes, most, least) for _ in range(many)]
+
+    def family(self, many, lanes, most, kind=Family, least=1):
+        return kind(self.lots(many, lanes, most, least))
+
+    def chart(self, many, lanes, most):
+        return Map([self.family(1 + self.below(many), lanes, most) for _ in range(lanes)])
+
     def net(self, lanes, many, words=WORDS):
         return Net(lanes, self.gates(lanes, many, words))
 
@@ -82,6 +135,35 @@ def drawn_nets(times, most_lanes=12, most_gates=30, words=WORDS, least_lanes=1):
         draw = Draw(seed)
         lanes = least_lanes + draw.below(most_lanes - least_lanes + 1)
         found.append((draw.net(lanes, draw.below(most_gates + 1), words), draw))
+    return found
+
+
+def drawn_families(times, many=4, lanes=4, kind=Family):
+    """Many pairs of families, with the draw from which more can be drawn; numbers alike, small, long."""
+    found = []
+    for seed in range(times):
+        draw = Draw(seed)
+        most = draw.pick((0, 1, 3, 20, HUGE))
+        wide = 1 + draw.below(lanes)
+        one, other = [draw.family(1 + draw.below(many), wide, most, kind) for _ in range(2)]
+        found.append((one, other, draw))
+    return found
+
+
+def without_key(told, key):
+    return {other: told[other] for other in told if other != key}
+
+
+def spoiled_dicts(told, odd_keys, odd_values):
+    """What comes of a dict by leaving out a key, by one more, by another one, and by another value."""
+    found = [list(told.items()), list(told), tuple(told.values()), (told,), [told]]
+    for key in told:
+        left = without_key(told, key)
+        found.append(left)
+        found.extend({**told, key: value} for value in odd_values)
+        # True stands for 1 where it is looked up: as a further key it would only change a value.
+        found.extend({**left, odd: told[key]} for odd in odd_keys if odd not in left and repr(odd) != repr(key))
+    found.extend({**told, odd: value} for odd in odd_keys if odd not in told for value in list(told.values())[:1])
     return found
 
 

@@ -1,63 +1,76 @@
-"""Point 2 for all that stands: names of parameters, repeated calls, lists that are changed afterwards, kinds."""
+"""Point 2 for all that stands: names of parameters, repeated calls, what is changed afterwards, kinds."""
 
 import copy
+import importlib
 import inspect
 
 from lanelots import basics, runs
+from lanelots.cofamilies import is_lane_pair, is_saddle, is_tree, saddle, unders
+from lanelots.families import CoFamily, Family
+from lanelots.maps import Map
 from lanelots.nets import Net
+from tests.calls import CHART, CO_FAMILY, FAMILY, FUNCTIONS, LOT, NET, OTHER, WIDE
 from tests.helpers import Case
 
-NET = Net(3, [("low", 0, 1), ("sort", 1, 2), ("add", 0, 2)])
-OTHER = Net(3, [("low", 0, 1), ("add", 0, 2), ("sort", 1, 2)])
-
-# For each function and method, by the names of the interface: the parameters in sequence, and what is told.
-FUNCTIONS = (
-    (basics.is_integer, {"value": 1}, True),
-    (basics.is_count, {"value": -1}, False),
-    (basics.is_content, {"value": [1, 2]}, True),
-    (basics.is_row, {"value": [None, 2]}, True),
-    (basics.spread, {"content": [5, 3, 9]}, 6),
-    (basics.farthest, {"content": [5, 3, 9], "other": [5, 4, 7]}, 2),
-    (basics.is_at_most, {"content": [5, 3, 7], "other": [5, 4, 7]}, True),
-    (basics.raised, {"content": [5, 3, 9], "number": -1}, [4, 2, 8]),
-    (basics.turned, {"content": [5, 3, 9]}, [-5, -3, -9]),
-    (basics.moved, {"content": [5, 3, 9], "order": [2, 0, 1]}, [3, 9, 5]),
-    (Net, {"lanes": 2, "gates": [("low", 0, 1)]}, Net.of(2, ("low", 0, 1))),
-    (NET, {"content": [5, 3, 1]}, [5, 1, 3]),
-    (NET.gates, {}, [("low", 0, 1), ("sort", 1, 2), ("add", 0, 2)]),
-    (NET.beside, {"other": Net(1)}, Net(4, NET.gates())),
-    (NET.renumbered, {"order": [1, 0, 2]}, Net(3, [("low", 1, 0), ("sort", 0, 2), ("add", 1, 2)])),
-    (NET.wider, {"lanes": 4}, Net(4, NET.gates())),
-    (NET.with_gate, {"position": 0, "gate": ("add", 2, 1)}, Net(3, [("add", 2, 1)] + NET.gates())),
-    (NET.without, {"position": 0}, Net(3, NET.gates()[1:])),
-    (NET.cut, {"position": 1}, (Net(3, NET.gates()[:1]), Net(3, NET.gates()[1:]))),
-    (NET.exchanged, {"position": 1}, OTHER),
-    (runs.contents, {"net": NET, "content": [5, 3, 1]}, [[5, 3, 1], [3, 3, 1], [3, 1, 3], [5, 1, 3]]),
-    (runs.origins, {"net": NET, "content": [5, 3, 1]}, [(1, 2), (2, 0), (1, 0)]),
-    (runs.rounds, {"net": NET, "content": [5, 3, 1], "many": 2}, [3, 1, 3]),
-    (runs.passed, {"net": NET, "content": [5, 3, 1], "many": 2}, [[5, 3, 1], [5, 1, 3], [3, 1, 3]]),
-    (runs.list_of, {"net": NET, "lane": 0}, [("low", 0, 1), ("add", 0, 2)]),
-    (runs.layers, {"net": NET}, [[0], [1, 2]]),
-    (runs.by_layers, {"net": NET}, NET),
-    (runs.cone, {"net": NET, "lane": 0}, [0, 2]),
-    (runs.cone_net, {"net": NET, "lane": 0}, Net(3, [("low", 0, 1), ("add", 0, 2)])),
-    (runs.looked_at, {"net": NET, "lane": 0}, [0, 1]),
-    (runs.is_shuffle, {"net": NET, "other": OTHER}, True),
-    (runs.first_shuffle, {"net": NET}, OTHER),
-    (runs.exchanges, {"net": NET, "other": OTHER}, [1]),
-    (runs.are_exchanges, {"net": NET, "other": OTHER, "value": [1]}, True),
-    (runs.unlike_lane, {"net": NET, "other": Net(3, NET.gates()[:2])}, 0),
-    (runs.is_unlike_lane, {"net": NET, "other": Net(3, NET.gates()[:2]), "value": 1}, False),
+LISTED = {
+    "lanelots.basics": ("is_integer", "is_count", "is_content", "is_row", "spread", "farthest", "is_at_most", "raised",
+                        "turned", "moved"),
+    "lanelots.nets": ("Net",),
+    "lanelots.runs": ("contents", "origins", "rounds", "passed", "list_of", "layers", "by_layers", "cone", "cone_net",
+                      "looked_at", "is_shuffle", "first_shuffle", "exchanges", "are_exchanges", "unlike_lane",
+                      "is_unlike_lane"),
+    "lanelots.lots": ("is_lot", "lot_value", "co_value", "is_under", "is_over", "least_lots", "over_lots"),
+    "lanelots.families": ("Family", "CoFamily", "lies_below"),
+    "lanelots.cofamilies": ("unders", "is_unders", "parting", "is_parting", "lane_pair", "is_lane_pair", "saddle",
+                            "is_saddle", "below", "is_below", "needed", "is_needed", "tree", "is_tree", "above"),
+    "lanelots.maps": ("Map", "fed"),
+}
+OF_FAMILIES = ("lots", "hung", "__init__", "__call__", "__and__", "__or__", "__add__", "__neg__", "__invert__",
+               "__len__",
+               "__contains__", "__eq__", "__repr__")
+METHODS = {
+    Net: ("of", "lanes", "is_plain", "gates", "beside", "renumbered", "wider", "with_gate", "without", "cut",
+          "exchanged",
+          "__init__", "__len__", "__getitem__", "__call__", "__add__", "__mul__", "__neg__", "__eq__", "__repr__",
+          "MOST_LANES", "MOST_GATES"),
+    Family: OF_FAMILIES,
+    CoFamily: OF_FAMILIES,
+    Map: ("same", "lanes", "is_plain", "families", "beside", "renumbered", "with_family", "__init__", "__getitem__",
+          "__call__", "__add__", "__mul__", "__neg__", "__eq__", "__repr__"),
+}
+# Each operator, at objects that must be the same behind it.
+OPERATIONS = (
+    (lambda one, two: one + two, NET, OTHER), (lambda one, two: one * two, NET, 2), (lambda one, _: -one, NET, None),
+    (lambda one, two: one & two, FAMILY, Family([LOT])), (lambda one, two: one | two, FAMILY, Family([LOT])),
+    (lambda one, two: one + two, FAMILY, 3), (lambda one, _: -one, FAMILY, None), (lambda one, _: ~one, FAMILY, None),
+    (lambda one, two: one & two, CO_FAMILY, CoFamily([LOT])), (lambda one, two: one | two, CO_FAMILY, CoFamily([LOT])),
+    (lambda one, two: one + two, CO_FAMILY, 3), (lambda one, _: -one, CO_FAMILY, None),
+    (lambda one, _: ~one, CO_FAMILY, None),
+    (lambda one, two: two in one, FAMILY, WIDE), (lambda one, _: len(one), FAMILY, None),
+    (lambda one, two: one + two, CHART, CHART), (lambda one, two: one * two, CHART, 3),
+    (lambda one, _: -one, CHART, None),
+    (lambda one, two: one[two], CHART, 0), (lambda one, two: one == two, CHART, -CHART),
 )
 
 
 def spoil(told):
-    """Changes all lists in what was told, however deep."""
+    """Changes all lists and dicts in what was told, however deep."""
     if isinstance(told, (list, tuple)):
         for inner in told:
             spoil(inner)
     if isinstance(told, list):
         told.append("spoiled")
+    if isinstance(told, dict):
+        for inner in told.values():
+            spoil(inner)
+        told["spoiled"] = None
+
+
+def turned_dicts(value):
+    """The value with the keys of all dicts in it in the other sequence."""
+    if isinstance(value, dict):
+        return {key: turned_dicts(value[key]) for key in reversed(value)}
+    return tuple(turned_dicts(part) for part in value) if isinstance(value, tuple) else value
 
 
 class Calls(Case):
@@ -71,6 +84,11 @@ class Calls(Case):
         for action, named, _ in FUNCTIONS:
             self.assertEqual(list(inspect.signature(action).parameters), list(named), action)
         self.assertEqual(list(inspect.signature(Net.of).parameters), ["lanes", "gates"])
+
+    def test_all_functions_are_called(self):
+        called = {action.__name__ for action, _, _ in FUNCTIONS if inspect.isfunction(action)
+                  or inspect.isclass(action)}
+        self.assertEqual(called, {name for names in LISTED.values() for name in names})
 
     def test_arguments_stay_as_they_are(self):
         for action, named, _ in FUNCTIONS:
@@ -101,6 +119,50 @@ class Calls(Case):
         content[0] = 9
         self.same(told, [[4, 4]] * 6)
 
+    def test_lots_and_families_were_copied(self):
+        for kind in (Family, CoFamily):
+            lots = [WIDE, LOT[:1]]
+            made = kind(lots[:1])
+            passed = kind(lots)
+            lots[0] = None
+            lots.append(LOT)
+            self.same([made.lots(), passed], [[WIDE], kind([WIDE, LOT])])
+            made.lots().append(LOT)
+            made.hung().append(7)
+            self.same([made.lots(), made.hung()], [[WIDE], [0, 2]])
+        families = [Family([LOT]), Family([LOT])]
+        chart = Map(families)
+        families[0] = None
+        families.append(FAMILY)
+        chart.families().append(FAMILY)
+        self.same(chart, Map([Family([LOT]), Family([LOT])]))
+
+    def test_operators_change_nothing(self):
+        for action, one, two in OPERATIONS:
+            ahead = repr((one, two))
+            told = action(one, two)
+            self.same(action(one, two), told)
+            self.assertEqual(repr((one, two)), ahead)
+
+    def test_keys_of_told_dicts_are_sorted(self):
+        middle = Family([((0, 0), (1, 0)), ((0, 0), (2, 0)), ((1, 0), (2, 0))])
+        for told in (unders(middle, middle + 1), saddle(middle, [3, 2, 1])[2], *[
+                action(**named) for action, named, _ in FUNCTIONS if isinstance(action(**named), dict)]):
+            self.assertEqual(list(told), sorted(told))
+
+    def test_keys_of_passed_dicts_in_any_sequence(self):
+        for action, named, wanted in FUNCTIONS:
+            self.same(action(**{name: turned_dicts(value) for name, value in named.items()}), wanted)
+
+    def test_tuples_within_papers(self):
+        one = Family([((0, 0),)])
+        self.same(is_lane_pair(one, 0, ((0,), [1])), True)
+        self.same(is_lane_pair(one, 0, ((0, 5), (1, 5))), True)
+        # Where the text says tuple, only a tuple is one.
+        self.same(is_lane_pair(one, 0, [[0], [1]]), False)
+        self.same(is_saddle(one, (0,), [0, ((0, 0),), {((0, 0),): 0}]), False)
+        self.same(is_tree(one, ~one, ["ask", ((0, 0),), {0: ("end", ((0, 0),))}]), False)
+
     def test_gates_are_plain_tuples(self):
         class Gate(tuple):
             pass
@@ -111,19 +173,19 @@ class Calls(Case):
 
 class Interface(Case):
     def test_defined_where_it_is_listed(self):
-        for action, _, _ in FUNCTIONS:
-            if inspect.isfunction(action):
-                self.assertIn(action.__module__, ("lanelots.basics", "lanelots.runs"))
-        self.assertEqual(Net.__module__, "lanelots.nets")
+        for file, names in LISTED.items():
+            for name in names:
+                self.assertEqual(getattr(importlib.import_module(file), name).__module__, file)
 
     def test_methods_stand_in_the_class_itself(self):
-        for name in ("of", "lanes", "is_plain", "gates", "beside", "renumbered", "wider", "with_gate", "without", "cut",
-                     "exchanged", "__init__", "__len__", "__getitem__", "__call__", "__add__", "__mul__", "__neg__",
-                     "__eq__", "__repr__", "MOST_LANES", "MOST_GATES"):
-            self.assertIn(name, vars(Net))
-        self.assertIsInstance(vars(Net)["lanes"], property)
-        self.assertIsInstance(vars(Net)["is_plain"], property)
+        for kind, names in METHODS.items():
+            for name in names:
+                self.assertIn(name, vars(kind))
+        for kind in (Net, Map):
+            self.assertIsInstance(vars(kind)["lanes"], property)
+            self.assertIsInstance(vars(kind)["is_plain"], property)
         self.assertIsInstance(vars(Net)["of"], classmethod)
+        self.assertIsInstance(vars(Map)["same"], classmethod)
 
     def test_net_alone_takes_no_gates(self):
         self.same(Net(lanes=4), Net(4, []))
