@@ -47,7 +47,8 @@ class Unders(Case):
         self.same(is_unders(one, other, {((0, 2), (True, 3)): ((0, 0),)}), False)
         # A lot of the one, but not under this lot.
         apart = Family([((0, 1),), ((1, 0),)])
-        self.same([is_unders(one, apart, {((0, 1),): ((0, 0),), ((1, 0),): under}) for under in one.lots()], [False, True])
+        self.same([is_unders(one, apart, {((0, 1),): ((0, 0),), ((1, 0),): under}) for under in one.lots()],
+                  [False, True])
         self.same(is_unders(one, Family([((0, -1), (1, 0))]), {((0, -1), (1, 0)): ((0, 0),)}), False)
 
     def test_any_value(self):
