@@ -1,7 +1,7 @@
 """INTEGERS, COUNTS, contents and rows, and the checks of parameters that all files share."""
 
 from lanelots.errors import InvalidContent, InvalidLane, InvalidLanes, InvalidMany, InvalidNumber, InvalidOrder
-from lanelots.errors import InvalidOther
+from lanelots.errors import InvalidOther, InvalidRow
 
 LANES_AT_MOST = 12
 
@@ -53,6 +53,18 @@ def check_content(content, lanes):
         raise InvalidContent(content)
 
 
+def check_any_content(content):
+    """InvalidContent unless a content of one to twelve lanes."""
+    if not is_content(content):
+        raise InvalidContent(content)
+
+
+def check_row(row, lanes):
+    """InvalidRow unless a row of so many lanes."""
+    if not is_row(row) or len(row) != lanes:
+        raise InvalidRow(row)
+
+
 def check_lanes(lanes, least):
     """InvalidLanes unless an INTEGER from least to twelve."""
     if not is_integer(lanes) or not least <= lanes <= LANES_AT_MOST:
@@ -85,7 +97,7 @@ def check_order(order, lanes):
 
 def spread(content):
     """The greatest less the least number."""
-    _check_any_content(content)
+    check_any_content(content)
     return max(content) - min(content)
 
 
@@ -103,20 +115,20 @@ def is_at_most(content, other):
 
 def raised(content, number):
     """The content with the number added to all lanes."""
-    _check_any_content(content)
+    check_any_content(content)
     check_number(number)
     return [own + number for own in content]
 
 
 def turned(content):
     """The content with all signs changed."""
-    _check_any_content(content)
+    check_any_content(content)
     return [-number for number in content]
 
 
 def moved(content, order):
     """The content in which lane order[i] has what lane i has here."""
-    _check_any_content(content)
+    check_any_content(content)
     check_order(order, len(content))
     found = list(content)
     for lane, number in zip(order, content):
@@ -124,12 +136,7 @@ def moved(content, order):
     return found
 
 
-def _check_any_content(content):
-    if not is_content(content):
-        raise InvalidContent(content)
-
-
 def _check_pair(content, other):
-    _check_any_content(content)
+    check_any_content(content)
     if not is_content(other) or len(other) != len(content):
         raise InvalidOther(other)

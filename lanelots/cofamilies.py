@@ -24,10 +24,15 @@ def is_unders(one, other, value):
 
 def parting(one, other):
     """The corner of the other family's first lot under which the one has none; None."""
+    return parting_of(one, other, _lanes_needed([one, other]))
+
+
+def parting_of(one, other, lanes):
+    """The same as parting, of so many lanes."""
     lots = one.lots()
     for lot in other.lots():
         if first_under(lots, lot) is None:
-            return _corner(lot, _above_all(lots), _lanes_needed([one, other]))
+            return _corner(lot, _above_all(lots), lanes)
     return None
 
 
@@ -60,10 +65,15 @@ def _below_all(lots):
 def lane_pair(family, lane):
     """A corner, and the same with the lane 1 more: the family tells 0, then 1. None if it does not hang on it."""
     check_lane(lane, LANES_AT_MOST)
+    return lane_pair_of(family, lane, _lanes_needed([family]))
+
+
+def lane_pair_of(family, lane, lanes):
+    """The same as lane_pair, of so many lanes."""
     lots = family.lots()
     for lot in lots:
         if lane in dict(lot):
-            corner = _corner(lot, _above_all(lots), _lanes_needed([family]))
+            corner = _corner(lot, _above_all(lots), lanes)
             return (corner, corner[:lane] + [corner[lane] + 1] + corner[lane + 1:])
     return None
 

@@ -97,14 +97,14 @@ def over_lots(lots):
     return over_of(plain_lots(lots), MOST_LISTED)
 
 
-def least_of(lots, most):
+def least_of(lots, most, what="lots"):
     """The same as least_lots, of any number of plain lots; TooMany if more than so many are left."""
     kept = []
     # What is under another lot has fewer lanes or a lesser sum: it comes first, so what is kept stays.
     for lot in sorted(sorted(set(lots)), key=_weight):
         if first_under(kept, lot) is None:
             if len(kept) == most:
-                raise TooMany("lots", most)
+                raise TooMany(what, most)
             kept.append(lot)
     return sorted(kept)
 
@@ -118,14 +118,14 @@ def over_of(lots, most):
     return sorted(turned_lots(least_of(turned_lots(lots), most)))
 
 
-def least_joins(ones, others):
+def least_joins(ones, others, most=MOST_LOTS, what="lots"):
     """The least lots of the joins of one of the first lots with one of the second ones; TooMany as of a family."""
     # A lot with one of the other side under it is a join itself, and under all its further joins.
     done = [lot for lot in ones if first_under(others, lot) is not None]
     done = done + [lot for lot in others if first_under(ones, lot) is not None]
     open_ones = [lot for lot in ones if first_under(others, lot) is None]
     open_others = [lot for lot in others if first_under(ones, lot) is None]
-    return least_of(done + [joined(one, other) for one in open_ones for other in open_others], MOST_LOTS)
+    return least_of(done + [joined(one, other) for one in open_ones for other in open_others], most, what)
 
 
 def joined(one, other):
@@ -146,6 +146,36 @@ def turned_choices(lots):
     return found
 
 
+def least_choices(lots, most, what):
+    """The co-lots of the other side of the family of these least lots; TooMany if there are more than so many."""
+    if not lots:
+        return [()]
+    lane = min([lot[0][0] for lot in lots])
+    numbers = {lot[0][1] for lot in lots if lot[0][0] == lane}
+    found = {}
+    # Each co-lot of what a number leaves to the other lanes is one in the end, with this number or a greater one:
+    # so these are never more, and it has the first number with which it was found.
+    for number in [None, *sorted(numbers, reverse=True)]:
+        left = _left_by(lots, lane, number)
+        rests = [] if () in left else least_choices(least_of(left, len(left)), most, what)
+        for rest in rests:
+            found.setdefault(rest, number)
+        if len(found) > most:
+            raise TooMany(what, most)
+    return [rest if found[rest] is None else ((lane, found[rest]), *rest) for rest in found]
+
+
+def _left_by(lots, lane, number):
+    """Of the lots whose number at the lane is less than this one, or that lack the lane, the parts on other lanes."""
+    found = []
+    for lot in lots:
+        if lot[0][0] != lane:
+            found.append(lot)
+        elif number is None or lot[0][1] < number:
+            found.append(lot[1:])
+    return found
+
+
 def turned_lot(lot):
     """The lot with all signs changed."""
     return tuple([(lane, -number) for lane, number in lot])
@@ -154,6 +184,12 @@ def turned_lot(lot):
 def turned_lots(lots):
     """The lots with all signs changed, in the same sequence."""
     return [turned_lot(lot) for lot in lots]
+
+
+def row_of(lot, lanes):
+    """The row of so many lanes that has the lot's numbers with changed signs, None elsewhere."""
+    numbers = dict(lot)
+    return [-numbers[lane] if lane in numbers else None for lane in range(lanes)]
 
 
 def raised_lots(lots, more):

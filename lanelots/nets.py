@@ -107,7 +107,7 @@ class Net:
         raise TypeError("a net is not iterated over: ask for its gates()")
 
     def __getitem__(self, at):
-        _check_position(at, len(self._gates))
+        check_position(at, len(self._gates))
         return self._gates[at]
 
     def __call__(self, content):
@@ -165,24 +165,24 @@ class Net:
 
     def with_gate(self, position, gate):
         """The net with this gate put in at the place."""
-        _check_position(position, len(self._gates) + 1)
+        check_position(position, len(self._gates) + 1)
         if not is_gate(gate, self._lanes):
             raise InvalidGate(gate)
         return Net(self._lanes, self._gates[:position] + [gate] + self._gates[position:])
 
     def without(self, position):
         """The net without the gate there."""
-        _check_position(position, len(self._gates))
+        check_position(position, len(self._gates))
         return Net(self._lanes, self._gates[:position] + self._gates[position + 1:])
 
     def cut(self, position):
         """The net of the gates ahead of the place, and that of those from it on."""
-        _check_position(position, len(self._gates) + 1)
+        check_position(position, len(self._gates) + 1)
         return (Net(self._lanes, self._gates[:position]), Net(self._lanes, self._gates[position:]))
 
     def exchanged(self, position):
         """The net with the gate there and the next one in the place of each other."""
-        _check_position(position, len(self._gates) - 1)
+        check_position(position, len(self._gates) - 1)
         ahead, behind = self._gates[:position], self._gates[position + 2:]
         return Net(self._lanes, ahead + [self._gates[position + 1], self._gates[position]] + behind)
 
@@ -198,6 +198,13 @@ def _check_gates(gates, lanes):
         raise TooMany("gates", Net.MOST_GATES)
 
 
-def _check_position(position, places):
+def check_position(position, places):
+    """InvalidPosition unless one of so many places."""
     if not is_count(position) or position >= places:
         raise InvalidPosition(position)
+
+
+def check_as_wide(net, other):
+    """InvalidOther unless a net of as many lanes."""
+    if not isinstance(other, Net) or other.lanes != net.lanes:
+        raise InvalidOther(other)

@@ -2,7 +2,7 @@
 
 from lanelots.basics import check_content, check_lane, check_many, is_count, is_lane, is_list
 from lanelots.errors import InvalidOther, TooMany
-from lanelots.nets import Net, are_touching, behind_gate, lanes_of
+from lanelots.nets import Net, are_touching, behind_gate, check_as_wide, lanes_of
 
 MOST_ROUNDS = 1000
 MOST_EXCHANGES = 1000
@@ -207,7 +207,7 @@ def are_exchanges(net, other, value):
 
 def unlike_lane(net, other):
     """The least lane whose lists are unlike, None without one."""
-    _check_as_wide(net, other)
+    check_as_wide(net, other)
     for lane in range(net.lanes):
         if list_of(net, lane) != list_of(other, lane):
             return lane
@@ -216,15 +216,10 @@ def unlike_lane(net, other):
 
 def is_unlike_lane(net, other, value):
     """Whether any value is a lane whose lists are unlike."""
-    _check_as_wide(net, other)
+    check_as_wide(net, other)
     return is_lane(value, net.lanes) and list_of(net, value) != list_of(other, value)
 
 
 def _check_net(other):
     if not isinstance(other, Net):
-        raise InvalidOther(other)
-
-
-def _check_as_wide(net, other):
-    if not isinstance(other, Net) or other.lanes != net.lanes:
         raise InvalidOther(other)

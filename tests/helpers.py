@@ -18,6 +18,16 @@ NOT_CONTENTS_OF_TWO = NOT_LISTS + (
     [], (), [1], (1,), [1, 2, 3], (1, 2, 3), [True, 0], [0, False], [None, 1], (1, None), ["1", 2], [[1], 2],
     [(1,), (2,)], list(range(13)),
 )
+NOT_ROWS_OF_TWO = NOT_LISTS + (
+    [], (), [1], (None,), [1, 2, 3], (None, None, None), [True, 0], [None, False], ["1", None], [[None], 2],
+    [(1,), None], [None] * 13,
+)
+NOT_LANES_OF_TWO = NOT_COUNTS + (2, 11, 12, HUGE)
+NOT_LANES_OF_TWELVE = NOT_COUNTS + (12, 13, HUGE)
+NOT_FLAGS_OF_TWO = NOT_LISTS + (
+    [], (), [0, 1], (0,), (0, 1, 0), (0, 2), (-1, 0), (True, 0), (0, False), (None, 1), ("0", "1"), ((0,), 1), ([0], 1),
+    "01", (0, HUGE),
+)
 NOT_ORDERS_OF_TWO = NOT_LISTS + (
     [], (0,), [0], [0, 0], [1, 1], [1, 2], (0, 2), [-1, 0], [0, 1, 2], [0, 1, 1], [False, True], [0, True], [0, None],
     ["0", "1"], [0, [1]], [(0,), (1,)],
@@ -123,6 +133,19 @@ class Draw:
 
     def chart(self, many, lanes, most):
         return Map([self.family(1 + self.below(many), lanes, most) for _ in range(lanes)])
+
+    def differences(self, lanes, many, most, least=None):
+        """So many differences, not all of unlike pairs; numbers from least on, or from -most."""
+        found = []
+        for _ in range(many if lanes > 1 else 0):
+            i = self.below(lanes)
+            number = self.content(1, most)[0]
+            found.append((i, (i + 1 + self.below(lanes - 1)) % lanes, number if least is None else max(least, number)))
+        return found
+
+    def row(self, lanes, most):
+        """A row with None here and there."""
+        return [None if self.below(3) == 0 else number for number in self.content(lanes, most)]
 
     def net(self, lanes, many, words=WORDS):
         return Net(lanes, self.gates(lanes, many, words))
