@@ -6,11 +6,17 @@ import inspect
 
 from lanelots import basics, runs
 from lanelots.cofamilies import is_lane_pair, is_saddle, is_tree, saddle, unders
+from lanelots.errors import LaneError
 from lanelots.families import CoFamily, Family
 from lanelots.maps import Map
 from lanelots.nets import Net
-from tests.calls import CHART, CO_FAMILY, FAMILY, FUNCTIONS, LOT, NET, OTHER, WIDE
+from lanelots.spans import Spans
+from tests import calls, later_calls
+from tests.calls import CHART, CO_FAMILY, FAMILY, LOT, NET, OTHER, WIDE
 from tests.helpers import Case
+from tests.later_calls import HELD
+
+FUNCTIONS = calls.FUNCTIONS + later_calls.FUNCTIONS
 
 LISTED = {
     "lanelots.basics": ("is_integer", "is_count", "is_content", "is_row", "spread", "farthest", "is_at_most", "raised",
@@ -24,6 +30,21 @@ LISTED = {
     "lanelots.cofamilies": ("unders", "is_unders", "parting", "is_parting", "lane_pair", "is_lane_pair", "saddle",
                             "is_saddle", "below", "is_below", "needed", "is_needed", "tree", "is_tree", "above"),
     "lanelots.maps": ("Map", "fed"),
+    "lanelots.told": ("map_of", "map_behind", "lanes_hung", "shown", "rise", "are_alike", "unlike", "may_change",
+                      "steps_of", "is_steps"),
+    "lanelots.back": ("price", "net_of", "is_net_of"),
+    "lanelots.spans": ("Spans", "within", "sum_of", "is_ring", "ring", "fitting", "way", "needless", "lean", "summit",
+                       "lifted"),
+    "lanelots.gaps": ("value_at", "corner", "gap", "at_most", "above", "endless", "is_at_most", "is_above",
+                      "is_endless",
+                      "behind", "leads", "slip", "is_slip", "keeps", "alike_where", "unlike_where", "is_unlike_where"),
+    "lanelots.heads": ("at_ceiling", "at_floor", "heads", "feet", "is_head", "is_foot", "ladder", "is_ladder",
+                       "heads_back"),
+    "lanelots.sources": ("source", "is_source", "boxes", "how_many", "nowhere", "is_nowhere", "fitting_source"),
+    "lanelots.tables": ("flags_at", "led", "least_flags", "greatest_flags", "table_of", "is_table", "map_by"),
+    "lanelots.plainrounds": ("comes", "comes_of", "settles", "settled", "map_behind", "content_behind", "laps", "ranks",
+                             "is_lap", "is_settling", "stands", "standing", "risen", "fallen", "holders", "held",
+                             "holding", "alike_from", "parting_round"),
 }
 OF_FAMILIES = ("lots", "hung", "__init__", "__call__", "__and__", "__or__", "__add__", "__neg__", "__invert__",
                "__len__",
@@ -37,6 +58,8 @@ METHODS = {
     CoFamily: OF_FAMILIES,
     Map: ("same", "lanes", "is_plain", "families", "beside", "renumbered", "with_family", "__init__", "__getitem__",
           "__call__", "__add__", "__mul__", "__neg__", "__eq__", "__repr__"),
+    Spans: ("lanes", "differences", "number", "closed", "ball", "__init__", "__len__", "__contains__", "__and__",
+            "__neg__", "__eq__", "__repr__"),
 }
 # Each operator, at objects that must be the same behind it.
 OPERATIONS = (
@@ -50,6 +73,9 @@ OPERATIONS = (
     (lambda one, two: one + two, CHART, CHART), (lambda one, two: one * two, CHART, 3),
     (lambda one, _: -one, CHART, None),
     (lambda one, two: one[two], CHART, 0), (lambda one, two: one == two, CHART, -CHART),
+    (lambda one, two: one & two, HELD, Spans(3, [(2, 0, 1)])), (lambda one, _: -one, HELD, None),
+    (lambda one, two: one == two, HELD, HELD.closed()), (lambda one, two: two in one, HELD, [2, 0, 1]),
+    (lambda one, _: len(one), HELD, None),
 )
 
 
@@ -86,9 +112,10 @@ class Calls(Case):
         self.assertEqual(list(inspect.signature(Net.of).parameters), ["lanes", "gates"])
 
     def test_all_functions_are_called(self):
-        called = {action.__name__ for action, _, _ in FUNCTIONS if inspect.isfunction(action)
-                  or inspect.isclass(action)}
-        self.assertEqual(called, {name for names in LISTED.values() for name in names})
+        called = {(action.__module__, action.__qualname__) for action, _, _ in FUNCTIONS
+                  if inspect.isfunction(action) or inspect.isclass(action)}
+        listed = {(file, name) for file, names in LISTED.items() for name in names}
+        self.assertEqual(called, listed | {("lanelots.spans", "Spans.ball")})
 
     def test_arguments_stay_as_they_are(self):
         for action, named, _ in FUNCTIONS:
@@ -137,6 +164,17 @@ class Calls(Case):
         chart.families().append(FAMILY)
         self.same(chart, Map([Family([LOT]), Family([LOT])]))
 
+    def test_what_raises_an_error_changes_nothing(self):
+        odd, seen = {"odd": [1, (2, [3])]}, 0
+        for action, named, _ in FUNCTIONS:
+            for name in set(named) & {"content", "row", "lane", "number", "many", "position", "low", "high", "order",
+                                      "flags", "table", "lanes", "differences", "lots", "families", "gates", "lot"}:
+                passed = copy.deepcopy({**named, name: odd})
+                self.assertRaises(LaneError, action, **passed)
+                self.same(passed, {**named, name: odd})
+                seen += 1
+        self.assertGreater(seen, 80)
+
     def test_operators_change_nothing(self):
         for action, one, two in OPERATIONS:
             ahead = repr((one, two))
@@ -184,6 +222,8 @@ class Interface(Case):
         for kind in (Net, Map):
             self.assertIsInstance(vars(kind)["lanes"], property)
             self.assertIsInstance(vars(kind)["is_plain"], property)
+        self.assertIsInstance(vars(Spans)["lanes"], property)
+        self.assertIsInstance(vars(Spans)["ball"], staticmethod)
         self.assertIsInstance(vars(Net)["of"], classmethod)
         self.assertIsInstance(vars(Map)["same"], classmethod)
 

@@ -70,6 +70,15 @@ class Form(unittest.TestCase):
                     known = LIBRARY.get(node.module, set()) | defined.get(node.module, set())
                     self.assertFalse([alias.name for alias in node.names if alias.name not in known], name)
 
+    def test_all_imports_are_used_and_no_local_name_hides_one(self):
+        for name, tree in trees():
+            imported = {alias.name for node in tree.body if isinstance(node, ast.ImportFrom) for alias in node.names}
+            names = [node for node in ast.walk(tree) if isinstance(node, ast.Name)]
+            self.assertFalse(imported - {node.id for node in names}, name)
+            local = {node.id for node in names if isinstance(node.ctx, ast.Store)}
+            local.update(node.arg for node in ast.walk(tree) if isinstance(node, ast.arg))
+            self.assertFalse(local & imported, name)
+
     def test_only_the_builtins_that_are_let(self):
         for name, tree in trees():
             used = {node.id for node in ast.walk(tree) if isinstance(node, ast.Name)}
