@@ -11,12 +11,12 @@ from lanelots.families import CoFamily, Family
 from lanelots.maps import Map
 from lanelots.nets import Net
 from lanelots.spans import Spans
-from tests import calls, later_calls
+from tests import calls, later_calls, pace_calls
 from tests.calls import CHART, CO_FAMILY, FAMILY, LOT, NET, OTHER, WIDE
 from tests.helpers import Case
 from tests.later_calls import HELD
 
-FUNCTIONS = calls.FUNCTIONS + later_calls.FUNCTIONS
+FUNCTIONS = calls.FUNCTIONS + later_calls.FUNCTIONS + pace_calls.FUNCTIONS
 
 LISTED = {
     "lanelots.basics": ("is_integer", "is_count", "is_content", "is_row", "spread", "farthest", "is_at_most", "raised",
@@ -45,6 +45,13 @@ LISTED = {
     "lanelots.plainrounds": ("comes", "comes_of", "settles", "settled", "map_behind", "content_behind", "laps", "ranks",
                              "is_lap", "is_settling", "stands", "standing", "risen", "fallen", "holders", "held",
                              "holding", "alike_from", "parting_round"),
+    "lanelots.pace": ("is_rate", "pace", "paces", "by_pace", "is_at_most", "is_at_least", "plan_paper", "answer_paper",
+                      "is_plan_paper", "is_answer_paper", "most_behind", "least_behind"),
+    "lanelots.plans": ("plan_map", "answer_map", "best_plan", "best_answer", "is_best_plan", "is_best_answer", "rings",
+                       "steepest"),
+    "lanelots.walks": ("is_walk", "walk_of", "step_of", "walked_to", "plan_from", "answer_from", "far_from"),
+    "lanelots.even": ("is_even", "even_of", "is_uneven", "uneven_of", "moved_by", "lap_of", "least_above",
+                      "greatest_below"),
 }
 OF_FAMILIES = ("lots", "hung", "__init__", "__call__", "__and__", "__or__", "__add__", "__neg__", "__invert__",
                "__len__",
@@ -168,12 +175,13 @@ class Calls(Case):
         odd, seen = {"odd": [1, (2, [3])]}, 0
         for action, named, _ in FUNCTIONS:
             for name in set(named) & {"content", "row", "lane", "number", "many", "position", "low", "high", "order",
-                                      "flags", "table", "lanes", "differences", "lots", "families", "gates", "lot"}:
+                                      "flags", "table", "lanes", "differences", "lots", "families", "gates", "lot", "rate",
+                                      "paper", "plan", "answer", "walk"}:
                 passed = copy.deepcopy({**named, name: odd})
                 self.assertRaises(LaneError, action, **passed)
                 self.same(passed, {**named, name: odd})
                 seen += 1
-        self.assertGreater(seen, 80)
+        self.assertGreater(seen, 110)
 
     def test_operators_change_nothing(self):
         for action, one, two in OPERATIONS:
