@@ -140,3 +140,14 @@ def _check_pair(content, other):
     check_any_content(content)
     if not is_content(other) or len(other) != len(content):
         raise InvalidOther(other)
+
+
+def copied(value):
+    """The value with new lists and dicts in it, however deep."""
+    if isinstance(value, list):
+        return [copied(part) for part in value]
+    if isinstance(value, tuple):
+        return tuple([copied(part) for part in value])
+    if isinstance(value, dict):
+        return {key: copied(value[key]) for key in value}
+    return value

@@ -190,6 +190,19 @@ def spoiled_dicts(told, odd_keys, odd_values):
     return found
 
 
+def spoil(told):
+    """Changes all lists and dicts in what was told, however deep."""
+    if isinstance(told, (list, tuple)):
+        for inner in told:
+            spoil(inner)
+    if isinstance(told, list):
+        told.append("spoiled")
+    if isinstance(told, dict):
+        for inner in told.values():
+            spoil(inner)
+        told["spoiled"] = None
+
+
 def drawn_contents(draw, lanes):
     """Contents near one another, with equal numbers, far apart, and with up to thirty digits."""
     return [draw.content(lanes, most) for most in (1, 2, 6, 1000, HUGE)] + [[7] * lanes]

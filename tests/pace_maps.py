@@ -56,7 +56,7 @@ def drawn_maps(times, lanes=4, many=3, most=(0, 1, 2, 5, 30), far=FAR):
 
 
 def drawn_narrow_family(draw, lane, lanes, most):
-    """A family that goes on to this lane, and sometimes has a further lot, or a further lane in it: so rings are long."""
+    """A family that goes on to this lane, sometimes with a further lot, or a further lane in it: so rings are long."""
     lots = [((lane, draw.number(most)),)]
     other = draw.below(lanes)
     more = draw.below(8)

@@ -92,3 +92,28 @@ class Form(unittest.TestCase):
                     self.assertNotIsInstance(node.value, float, name)
                     if isinstance(node.value, str):
                         self.assertNotIn("%", node.value, name)
+
+    def test_no_generators_and_no_identity_but_with_plain_names(self):
+        for name, tree in trees():
+            for node in ast.walk(tree):
+                self.assertNotIsInstance(node, (ast.GeneratorExp, ast.Yield, ast.YieldFrom, ast.Global), name)
+                if isinstance(node, ast.Compare):
+                    pairs = zip(node.ops, node.comparators)
+                    asked = [other for sign, other in pairs if isinstance(sign, (ast.Is, ast.IsNot))]
+                    self.assertTrue(all(isinstance(other, ast.Constant) for other in asked), name)
+
+    def test_no_two_files_import_from_each_other(self):
+        needs = {name[:-3]: {node.module.split(".")[1] for node in tree.body
+                             if isinstance(node, ast.ImportFrom) and node.module.startswith("lanelots.")}
+                 for name, tree in trees()}
+        while needs:
+            free = [name for name in needs if not needs[name] & set(needs)]
+            self.assertTrue(free, needs)
+            needs = {name: needs[name] for name in needs if name not in free}
+
+    def test_names_of_parameters_and_variables_are_no_builtins(self):
+        for name, tree in trees():
+            local = {node.id for node in ast.walk(tree) if isinstance(node, ast.Name) and isinstance(node.ctx, ast.Store)}
+            local.update(node.arg for node in ast.walk(tree) if isinstance(node, ast.arg))
+            local.update(top_names(tree))
+            self.assertFalse({word for word in local if hasattr(builtins, word)}, name)

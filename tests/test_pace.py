@@ -9,14 +9,12 @@ from lanelots.nets import Net
 from lanelots.pace import (
     answer_paper, by_pace, is_answer_paper, is_at_least, is_at_most, is_plan_paper, is_rate, pace, paces, plan_paper,
 )
-from lanelots.plans import (
-    answer_map, best_answer, best_plan, is_best_answer, is_best_plan, plan_map, rings, steepest,
-)
+from lanelots.plans import best_answer, best_plan, is_best_answer, is_best_plan
 from lanelots.told import map_of
 from tests import pace_oracle as oracle
-from tests.helpers import HUGE, NO_PAPERS, NOT_INTEGERS, NOT_LANES_OF_TWO, NOT_LISTS, Case, Draw
+from tests.helpers import HUGE, NO_PAPERS, NOT_LANES_OF_TWO, NOT_LISTS, Case, Draw
 from tests.pace_maps import (
-    CHART, FAR_SPREAD, ROUND, SEVEN, SIX, SPREAD, SPREADS, SWAP, TOO_SPREAD, WIDE_AND_SPREAD, drawn_even_maps,
+    CHART, FAR_SPREAD, SEVEN, SIX, SPREAD, SPREADS, SWAP, TOO_SPREAD, WIDE_AND_SPREAD, drawn_even_maps,
     drawn_maps, one_lot, raised, several, turns,
 )
 
@@ -186,7 +184,8 @@ class AtMostAtLeast(Case):
                         self.same((is_at_most(chart, lane, rate), is_at_least(chart, lane, rate)), wanted)
 
     def test_far_rates(self):
-        self.same([is_at_most(CHART, 0, (HUGE, 1)), is_at_most(CHART, 0, (-HUGE, 60)), is_at_least(CHART, 0, (HUGE, 60)),
+        self.same([is_at_most(CHART, 0, (HUGE, 1)), is_at_most(CHART, 0, (-HUGE, 60)),
+                   is_at_least(CHART, 0, (HUGE, 60)),
                    is_at_least(CHART, 0, (-HUGE, 1))], [True, False, False, True])
         self.same([is_at_most(chart=SWAP, lane=0, rate=(1, 2)), is_at_least(chart=SWAP, lane=1, rate=(30, 60)),
                    is_at_most(SWAP, 0, (29, 60)), is_at_least(SWAP, 0, (31, 60))], [True, True, False, False])

@@ -137,7 +137,7 @@ class AnswerPapers(Case):
     def test_spoiled_ones(self):
         odd = NOT_PARTS + (([0, 1], True), ([0, 1], None), ([0, 1], "0"), ([0], 0), ([0, 1, 1], 0), ([1, 1], 0),
                            ([1, 0], 0), ([0, 2], 0), ([0, None], 0), ([False, True], 0), ([[0], 1], 0), ({0: 1}, 0),
-                           ("01", 0), ([0, 1], HUGE))
+                           ("01", 0), ([0, 1], HUGE), ({0: 0, 1: 1}, 0), (b"\x00\x01", 0), (None, 0), (2, 0))
         for value in spoiled_dicts({0: ([0, 1], 0), 1: ([1], 1)}, ODD_LANES, odd):
             self.same(is_answer_paper(CHART, 0, (1, 1), value), False)
         self.same(is_answer_paper(CHART, 0, (1, 1), {0: ([0, 1], 0), True: ([1], 1)}), False)

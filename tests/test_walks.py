@@ -73,7 +73,8 @@ class Judged(Case):
         for value in NOT_CONTENTS_OF_TWO:
             self.same(is_walk(CHART, (WALK[0], value)), False)
         self.same([is_walk(CHART, ([(1, 1)], [0, 1])), is_walk(CHART, ([(1, 1), (5, 1), (5, 1)], [0, 1])),
-                   is_walk(CHART, ([(1, 1), (10, 2)], [0, 1])), is_walk(CHART, ([(1, 1), [5, 1]], [0, 1]))], [False] * 4)
+                   is_walk(CHART, ([(1, 1), (10, 2)], [0, 1])), is_walk(CHART, ([(1, 1), [5, 1]], [0, 1]))],
+                  [False] * 4)
         self.same([is_walk(CHART, (((1, 1), (5, 1)), (0, 1))), is_walk(chart=CHART, value=WALK)], [True, True])
         self.same(is_walk(CHART, ([(HUGE, HUGE - 1), (1, HUGE)], [0, 1])), False)
 
@@ -89,6 +90,13 @@ class Judged(Case):
         for ahead, wanted in ((0, False), (1, True), (HUGE, True)):
             self.same(is_walk(CHART, ([(1, 1), (5, 1)], [0, ahead])), wanted)
         self.same(is_walk(CHART, ([(5, 1), (5, 1)], [-5, 0])), False)
+        # What is high enough must be fast enough, too, and what is low enough slow enough.
+        high = several([((0, 1),), ((1, 5), (2, -10))], [((1, 0),)], [((2, 2),)])
+        low = several([((0, 1), (1, 5)), ((0, 1), (2, -10))], [((1, 0),)], [((2, 2),)])
+        for ahead, wanted in ((0, False), (10, False), (11, True), (HUGE, True)):
+            self.same(is_walk(high, ([(1, 1), (0, 1), (2, 1)], [0, 0, ahead])), wanted)
+        for behind, wanted in ((0, False), (-3, False), (-4, True), (-HUGE, True)):
+            self.same(is_walk(low, ([(1, 1), (0, 1), (2, 1)], [0, behind, 0])), wanted)
 
     def test_without_limits(self):
         self.same([is_walk(SEVEN, ([(0, 1)] * 7, list(range(7)))), is_walk(Map.same(12), ([(0, 1)] * 12, [HUGE] * 12)),
@@ -222,7 +230,8 @@ class Far(Case):
                     ahead = found
 
     def test_rounds(self):
-        self.same([far_from(CHART, WALK, [7, -3]), far_from(CHART, WALK, [7, -3], 0), far_from(CHART, WALK, [0, 1], 1000),
+        self.same([far_from(CHART, WALK, [7, -3]), far_from(CHART, WALK, [7, -3], 0),
+                   far_from(CHART, WALK, [0, 1], 1000),
                    far_from(chart=CHART, walk=WALK, content=(HUGE, -HUGE), many=1)],
                   [(-4, 7), (-4, 7), (0, 0), (-HUGE - 1, -HUGE - 1)])
         self.same(far_from(CHART, WALK, [7, -3], 1000), (-4, -4))
